@@ -1,0 +1,1 @@
+"""Fewterms: sayings over a few lamps, told by as few terms as can be."""

@@ -1,0 +1,51 @@
+"""Terms: texts with a sign for each lamp, that of lamp 0 first."""
+
+from fewterms.lamps import all_settings, is_lit
+
+LIT = "1"
+DARK = "0"
+EITHER = "-"
+
+
+def is_term(thing, many):
+    """Whether a thing of any kind is a term of so many lamps."""
+    # The exact kind is asked for, so that nothing of a strange thing's own is run.
+    if type(thing) is not str or len(thing) != many:
+        return False
+    return all(sign in (LIT, DARK, EITHER) for sign in thing)
+
+
+def sign_at(setting, lamp):
+    """The sign that tells how a lamp is in a setting."""
+    return LIT if is_lit(setting, lamp) else DARK
+
+
+def has(term, setting):
+    """Whether a setting is so at all lamps of a term."""
+    for lamp, sign in enumerate(term):
+        if sign != EITHER and sign != sign_at(setting, lamp):
+            return False
+    return True
+
+
+def settings_of(term):
+    """The settings that a term has, rising."""
+    return [setting for setting in all_settings(len(term)) if has(term, setting)]
+
+
+def freed(term, lamp):
+    """The term with - at a lamp."""
+    return term[:lamp] + EITHER + term[lamp + 1:]
+
+
+def laid(one, other):
+    """What comes of two terms laid together, or None where they can't be."""
+    if len(one) != len(other):
+        return None
+    unlike = [lamp for lamp in range(len(one)) if one[lamp] != other[lamp]]
+    if len(unlike) != 1:
+        return None
+    at = unlike[0]
+    if one[at] == EITHER or other[at] == EITHER:
+        return None
+    return freed(one, at)
