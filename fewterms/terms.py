@@ -6,18 +6,34 @@ LIT = "1"
 DARK = "0"
 EITHER = "-"
 
+# All of them, in order as texts are.
+SIGNS = "-01"
+
 
 def is_term(thing, many):
     """Whether a thing of any kind is a term of so many lamps."""
     # The exact kind is asked for, so that nothing of a strange thing's own is run.
     if type(thing) is not str or len(thing) != many:
         return False
-    return all(sign in (LIT, DARK, EITHER) for sign in thing)
+    return all(sign in SIGNS for sign in thing)
+
+
+def all_terms(many):
+    """All terms of so many lamps, rising."""
+    terms = [""]
+    for _ in range(many):
+        terms = [term + sign for term in terms for sign in SIGNS]
+    return terms
 
 
 def sign_at(setting, lamp):
     """The sign that tells how a lamp is in a setting."""
     return LIT if is_lit(setting, lamp) else DARK
+
+
+def signs_of(setting, many):
+    """The term of so many lamps that has a setting alone."""
+    return "".join([sign_at(setting, lamp) for lamp in range(many)])
 
 
 def has(term, setting):

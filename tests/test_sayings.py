@@ -1,18 +1,14 @@
 import unittest
-from itertools import permutations, product
+from itertools import permutations
 
 from fewterms import sayings
 from fewterms.errors import BadCount, BadRows, BadTerm, TermError
 from fewterms.sayings import Saying
-from things import COUNTS, Hostile, HostileNumber, expected_has, no_lists, no_numbers, no_texts, terms_of
+from things import (
+    COUNTS, Hostile, HostileNumber, expected_has, no_lists, no_numbers, no_texts, sayings_of, terms_of,
+)
 
 NO_SETTINGS_OF_2 = (-1, 4, 5, 10 ** 3000, -10 ** 3000, True, False, 1.0, None, "1", "", b"1", [1], (1,))
-
-
-def sayings_of(many):
-    """All sayings of a few lamps, as triples of what is on, free and off."""
-    for kinds in product(("on", "free", "off"), repeat=2 ** many):
-        yield tuple([s for s, kind in enumerate(kinds) if kind == wanted] for wanted in ("on", "free", "off"))
 
 
 def told(saying):
