@@ -26,7 +26,7 @@ class Search:
     def __init__(self, saying):
         on = saying.on()
         self.all_on = mask_of(on)
-        # For each on setting the whole terms that have it, rising, each with its mask, and the mask of them all together.
+        # For each on setting the whole terms that have it, rising, each with its mask, and the mask of them all.
         self._having = {setting: [] for setting in on}
         self._near = {setting: 0 for setting in on}
         for term in wholes(saying):
