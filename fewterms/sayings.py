@@ -1,21 +1,23 @@
 """Sayings: which settings of a few lamps are on, which are free, which are off."""
 
 from fewterms.errors import BadCount, BadRows, BadTerm
-from fewterms.lamps import all_settings, is_count, is_setting
-from fewterms.terms import has, is_term
+from fewterms.lamps import is_count, is_setting
+from fewterms.masks import how_many_in, mask_of_all, settings_in
+from fewterms.terms import is_term, mask_had
 
 
-def rising_settings(rows, many):
-    """The settings of a list, in a new one, rising; BadRows of what is no list of unlike settings."""
+def mask_of_rows(rows, many):
+    """The mask of a list of settings; BadRows of what is no list of unlike settings."""
     if type(rows) is not list:
         raise BadRows("settings are handed in as a list")
+    mask = 0
     for row in rows:
         if not is_setting(row, many):
             raise BadRows("something in the list is no setting")
-    # Only here are all rows plain numbers, which can be counted in a set and sorted.
-    if len(set(rows)) != len(rows):
+        mask = mask | (1 << row)
+    if how_many_in(mask) != len(rows):
         raise BadRows("a setting is in the list twice")
-    return sorted(rows)
+    return mask
 
 
 class Saying:
@@ -24,19 +26,20 @@ class Saying:
     def __init__(self, many, on, free=None):
         if not is_count(many):
             raise BadCount("this is no number of lamps")
-        self._many = many
-        self._on = rising_settings(on, many)
-        self._free = [] if free is None else rising_settings(free, many)
-        told = self._on + self._free
-        if len(set(told)) != len(told):
+        on_mask = mask_of_rows(on, many)
+        free_mask = 0 if free is None else mask_of_rows(free, many)
+        if on_mask & free_mask != 0:
             raise BadRows("a setting is on and free")
-        self._off = [setting for setting in all_settings(many) if setting not in told]
+        self._many = many
+        self._on = sorted(on)
+        self._free = [] if free is None else sorted(free)
+        self._off_mask = mask_of_all(many) & ~(on_mask | free_mask)
 
     def many(self):
         """How many lamps there are."""
         return self._many
 
-    # The lists are told as copies, so that the asker may change them.
+    # The lists are told as new ones, so that the asker may change them.
     def on(self):
         """The settings that are on, rising."""
         return list(self._on)
@@ -47,13 +50,10 @@ class Saying:
 
     def off(self):
         """The settings that are off, rising."""
-        return list(self._off)
+        return settings_in(self._off_mask)
 
     def is_good(self, term):
         """Whether a term has no off setting; BadTerm of what is no term of as many lamps."""
         if not is_term(term, self._many):
             raise BadTerm("this is no term of as many lamps")
-        for setting in self._off:
-            if has(term, setting):
-                return False
-        return True
+        return mask_had(term) & self._off_mask == 0

@@ -1,6 +1,7 @@
 """Terms: texts with a sign for each lamp, that of lamp 0 first."""
 
-from fewterms.lamps import all_settings, is_lit
+from fewterms.lamps import is_lit
+from fewterms.masks import settings_in
 
 LIT = "1"
 DARK = "0"
@@ -15,15 +16,8 @@ def is_term(thing, many):
     # The exact kind is asked for, so that nothing of a strange thing's own is run.
     if type(thing) is not str or len(thing) != many:
         return False
-    return all(sign in SIGNS for sign in thing)
-
-
-def all_terms(many):
-    """All terms of so many lamps, rising."""
-    terms = [""]
-    for _ in range(many):
-        terms = [term + sign for term in terms for sign in SIGNS]
-    return terms
+    # Stripped of signs a text is empty only where it has nothing else.
+    return thing.strip(SIGNS) == ""
 
 
 def sign_at(setting, lamp):
@@ -44,9 +38,22 @@ def has(term, setting):
     return True
 
 
+def mask_had(term):
+    """The mask of the settings that a term has."""
+    mask = 1
+    for lamp, sign in enumerate(term):
+        # With this lamp lit each setting is greater by 1 << lamp, and so is the place of its bit.
+        lit = mask << (1 << lamp)
+        if sign == LIT:
+            mask = lit
+        elif sign == EITHER:
+            mask = mask | lit
+    return mask
+
+
 def settings_of(term):
     """The settings that a term has, rising."""
-    return [setting for setting in all_settings(len(term)) if has(term, setting)]
+    return settings_in(mask_had(term))
 
 
 def freed(term, lamp):

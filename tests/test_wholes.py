@@ -3,7 +3,8 @@ import unittest
 from fewterms import wholes as wholes_file
 from fewterms.errors import BadTerm
 from fewterms.sayings import Saying
-from fewterms.wholes import grown, is_whole, wholes
+from fewterms.terms import mask_had
+from fewterms.wholes import DIGITS, grown, is_whole, whole_terms, wholes
 from things import COUNTS, expected_wholes, had, no_texts, sayings_of, some_sayings_of, terms_of
 
 
@@ -114,6 +115,22 @@ class Wholes(unittest.TestCase):
         self.assertEqual(second, ["-1", "1-"])
         self.assertEqual(first, ["1-", "-1", "??"])
         self.assertEqual((saying.on(), saying.free(), saying.off()), ([1, 2], [3], [0]))
+
+
+class WholeTerms(unittest.TestCase):
+    def test_the_digits_of_the_places_of_terms(self):
+        terms = terms_of(5)
+        self.assertEqual(terms, sorted(terms))
+        self.assertEqual(len(DIGITS), 5)
+        for lamp, (worth, either) in enumerate(reversed(DIGITS)):
+            self.assertEqual(worth, terms.index("-" * lamp + "0" + "-" * (4 - lamp)))
+            self.assertEqual(either, sum(2 ** place for place, term in enumerate(terms) if term[lamp] == "-"))
+
+    def test_each_comes_with_its_mask(self):
+        for many in COUNTS:
+            for on, free, off in some_sayings_of(many, 40):
+                expected = [(mask_had(term), term) for term in expected_wholes(many, off)]
+                self.assertEqual(whole_terms(Saying(many, on, free)), expected, (on, free))
 
 
 class Grown(unittest.TestCase):
